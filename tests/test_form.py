@@ -1,0 +1,70 @@
+"""Those rules of the Python subset that a short program can see, for the files of the package."""
+
+import ast
+import builtins
+import pathlib
+import unittest
+
+PACKAGE = pathlib.Path(__file__).resolve().parent.parent / "stagebelt"
+FILES = sorted(PACKAGE.glob("*.py"))
+LIBRARY = ("heapq", "math", "itertools", "collections")
+
+
+def trees():
+    return [(path, ast.parse(path.read_text(encoding="utf-8"))) for path in FILES]
+
+
+def bound_names(tree):
+    """All names that a file binds: parameters, variables, functions, classes, imports."""
+    for node in ast.walk(tree):
+        if isinstance(node, ast.arg):
+            yield node.arg
+        elif isinstance(node, ast.Name) and isinstance(node.ctx, ast.Store):
+            yield node.id
+        elif isinstance(node, (ast.FunctionDef, ast.ClassDef)):
+            yield node.name
+        elif isinstance(node, ast.alias):
+            yield node.asname or node.name
+
+
+class FormTest(unittest.TestCase):
+    def test_only_python_files(self):
+        others = [path.name for path in PACKAGE.iterdir() if path not in FILES and path.name != "__pycache__"]
+        self.assertEqual(others, [])
+        self.assertIn(PACKAGE / "__init__.py", FILES)
+
+    def test_sizes_and_characters(self):
+        for path in FILES:
+            lines = path.read_text(encoding="utf-8").split("\n")
+            self.assertLessEqual(len(lines), 399, path.name)
+            for number, line in enumerate(lines, 1):
+                with self.subTest(path.name, line=number):
+                    self.assertLessEqual(len(line), 120)
+                    self.assertTrue(all(" " <= character <= "~" for character in line))
+
+    def test_functions_of_at_most_40_lines(self):
+        for path, tree in trees():
+            for node in ast.walk(tree):
+                if isinstance(node, ast.FunctionDef):
+                    self.assertLessEqual(node.end_lineno - node.lineno + 1, 40, f"{path.name} {node.name}")
+
+    def test_imports(self):
+        for path, tree in trees():
+            for node in ast.walk(tree):
+                self.assertNotIsInstance(node, ast.Import, path.name)
+                if isinstance(node, ast.ImportFrom):
+                    self.assertEqual(node.level, 0, path.name)
+                    self.assertTrue(node.module.startswith("stagebelt.") or node.module in LIBRARY, path.name)
+
+    def test_no_name_of_a_builtin(self):
+        for path, tree in trees():
+            taken = [name for name in bound_names(tree) if hasattr(builtins, name) and not name.startswith("__")]
+            self.assertEqual(taken, [], path.name)
+
+    def test_no_float_and_no_percent_sign(self):
+        for path, tree in trees():
+            for node in ast.walk(tree):
+                self.assertNotIsInstance(node, ast.Div, path.name)
+                if isinstance(node, ast.Constant):
+                    self.assertNotIsInstance(node.value, float, path.name)
+                    self.assertFalse(isinstance(node.value, str) and "%" in node.value, path.name)
