@@ -1,6 +1,6 @@
-"""Checks of integers, for all modules."""
+"""Checks of integers and strings, for all modules."""
 
-from stagebelt.errors import BadNumber
+from stagebelt.errors import BadNumber, NotText
 
 
 def is_whole(value):
@@ -18,3 +18,9 @@ def check_number(value, low, high):
     """Raise BadNumber for any value that is no integer from low to high."""
     if not is_within(value, low, high):
         raise BadNumber(f"no integer from {low} to {high}")
+
+
+def check_text(text):
+    """Raise NotText for any value that is no string."""
+    if not isinstance(text, str):
+        raise NotText("no string")

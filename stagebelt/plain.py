@@ -27,28 +27,30 @@ def check_state(state):
         raise BadState("no state")
 
 
-def cell_told(instruction, registers):
-    """The number of the cell that a load or a store is about."""
-    return (registers[part_of(instruction, "a")] + part_of(instruction, "cell")) % CELLS
+def used_word(instruction, part, registers):
+    """The word of the register that stands as this part of an instruction, None if it has none."""
+    at = part_of(instruction, part)
+    return None if at is None else registers[at]
 
 
-def made_by(instruction, registers, cells):
-    """The word that an instruction writes into its register."""
+def cell_told(instruction, one):
+    """The number of the cell that a load or a store is about, one being the word of its register a."""
+    return (one + part_of(instruction, "cell")) % CELLS
+
+
+def made_of(instruction, one, other, cells):
+    """The word that an instruction writes into its register, made of the words of its registers a and b."""
     name = instruction[0]
     if name == "set":
         return part_of(instruction, "word")
     if name == "load":
-        return cells[cell_told(instruction, registers)]
-    one = registers[part_of(instruction, "a")]
-    other = registers[part_of(instruction, "b")]
+        return cells[cell_told(instruction, one)]
     return computed(name, one, other)
 
 
-def goes_to_goal(instruction, registers):
-    """Whether the goal of an instruction is next."""
-    if instruction[0] == "zero":
-        return registers[part_of(instruction, "a")] == 0
-    return instruction[0] == "go"
+def goes_to_goal(instruction, one):
+    """Whether the goal of an instruction is next, one being the word of its register a."""
+    return instruction[0] == "go" or (instruction[0] == "zero" and one == 0)
 
 
 def replaced(words, at, new):
@@ -59,22 +61,22 @@ def replaced(words, at, new):
 def effect(instruction, state):
     """The state behind an instruction."""
     registers, cells, shown = state
+    one = used_word(instruction, "a", registers)
+    other = used_word(instruction, "b", registers)
     target = part_of(instruction, "d")
     if target is not None:
-        made = made_by(instruction, registers, cells)
-        return replaced(registers, target, made), cells, shown
+        return replaced(registers, target, made_of(instruction, one, other, cells)), cells, shown
     if instruction[0] == "store":
-        stored = registers[part_of(instruction, "b")]
-        return registers, replaced(cells, cell_told(instruction, registers), stored), shown
+        return registers, replaced(cells, cell_told(instruction, one), other), shown
     if instruction[0] == "out":
-        return registers, cells, shown + (registers[part_of(instruction, "a")],)
+        return registers, cells, shown + (one,)
     return state
 
 
 def behind(program, state, at):
     """The pair (state, next) behind instruction at; the arguments are checked already."""
     instruction = program[at]
-    if goes_to_goal(instruction, state[0]):
+    if goes_to_goal(instruction, used_word(instruction, "a", state[0])):
         return state, part_of(instruction, "goal")
     return effect(instruction, state), at + 1
 

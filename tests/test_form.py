@@ -9,6 +9,12 @@ PACKAGE = pathlib.Path(__file__).resolve().parent.parent / "stagebelt"
 FILES = sorted(PACKAGE.glob("*.py"))
 LIBRARY = ("heapq", "math", "itertools", "collections")
 
+# Methods of builtin values that may be called; only those that the package uses are listed.
+METHODS = ("append", "extend", "get", "index", "join", "split")
+
+NOT_USED = ("register", "mro", "elements", "open", "input", "law", "type", "typing", "enum", "Enum", "Flag", "Generic",
+            "Protocol", "ABC", "namedtuple", "dataclass", "overload", "contextmanager", "eval", "exec", "exit", "vars")
+
 
 def trees():
     return [(path, ast.parse(path.read_text(encoding="utf-8"))) for path in FILES]
@@ -60,6 +66,45 @@ class FormTest(unittest.TestCase):
         for path, tree in trees():
             taken = [name for name in bound_names(tree) if hasattr(builtins, name) and not name.startswith("__")]
             self.assertEqual(taken, [], path.name)
+
+    def test_no_name_of_a_class_or_an_import(self):
+        for path, tree in trees():
+            given = [node.name for node in tree.body if isinstance(node, (ast.FunctionDef, ast.ClassDef))]
+            for node in tree.body:
+                if isinstance(node, ast.ImportFrom):
+                    given.extend(alias.name for alias in node.names)
+            taken = [name for node in ast.walk(tree) if isinstance(node, (ast.FunctionDef, ast.Lambda, ast.ListComp))
+                     for inner in ast.iter_child_nodes(node) for name in bound_names(inner)]
+            self.assertEqual([name for name in taken if name in given], [], path.name)
+
+    def test_no_name_that_is_barred(self):
+        for path, tree in trees():
+            for name in bound_names(tree):
+                self.assertNotIn(name, NOT_USED, path.name)
+            words = path.read_text(encoding="utf-8").replace("_", " ").split()
+            self.assertFalse({"dataclass", "overload", "contextmanager"} & set(words), path.name)
+
+    def test_methods_that_are_called(self):
+        own = {node.name for _, tree in trees() for node in ast.walk(tree) if isinstance(node, ast.FunctionDef)}
+        for path, tree in trees():
+            for node in ast.walk(tree):
+                if isinstance(node, ast.Call) and isinstance(node.func, ast.Attribute):
+                    self.assertIn(node.func.attr, own | set(METHODS), path.name)
+
+    def test_is_only_with_constants(self):
+        for path, tree in trees():
+            for node in ast.walk(tree):
+                if isinstance(node, ast.Compare) and isinstance(node.ops[0], (ast.Is, ast.IsNot)):
+                    self.assertIn(getattr(node.comparators[0], "value", 0), (None, True, False), path.name)
+                    self.assertIsInstance(node.comparators[0], ast.Constant, path.name)
+
+    def test_no_circular_imports(self):
+        needed = {path.stem: {node.module.split(".")[1] for node in tree.body if isinstance(node, ast.ImportFrom)
+                              and node.module.startswith("stagebelt.")} for path, tree in trees()}
+        while needed:
+            free = [name for name, others in needed.items() if not others & set(needed)]
+            self.assertTrue(free, needed)
+            needed = {name: others for name, others in needed.items() if name not in free}
 
     def test_no_float_and_no_percent_sign(self):
         for path, tree in trees():

@@ -19,6 +19,24 @@ ARGUMENTS = {
         "stepped": ["program", "state", "at"], "ran": ["program", "state", "most"],
         "ended": ["program", "state"],
     },
+    "codes": {
+        "code": ["instruction"], "coded": ["one", "other"], "image": ["program"], "program_of": ["words"],
+    },
+    "texts": {
+        "written": ["program"], "write_design": ["design"], "assembled": ["text"], "read_design": ["text"],
+    },
+    "designs": {
+        "is_design": ["value"], "is_entry": ["value"], "all_entries": [],
+        "place_of": ["design", "kind", "what"], "last_place": ["design", "kind"],
+        "effect_place": ["design", "kind"], "with_waits": ["design", "waits"], "with_paths": ["design", "paths"],
+    },
+    "belts": {
+        "run": ["design", "program", "state", "guesser"],
+        "broken": ["design", "program", "state", "guesser", "beat"],
+        "delayed": ["design", "program", "state", "guesser", "delays"],
+        "laid_on": ["design", "program", "state", "guesser"],
+        "on_belt": ["design", "program", "state", "guesser", "beat"],
+    },
 }
 
 EXAMPLES = {
@@ -41,6 +59,36 @@ raises BadWord
 >>> [ran(program, state, 3)[1:], stepped(program, state, 0)[0][0][:2], ended(program[:2], state)[1]]
 [(1, 3), (0, 5), 2]
 >>> ended(program, state)
+raises TooLong(most=1000)
+""",
+    "codes": """
+>>> from stagebelt.codes import code, coded, image, program_of
+>>> [code(("add", 1, 2, 3)), coded(8856, 0), coded(1, 0), image((("go", 1),)), program_of((40960, 1))]
+[(8856, 0), ('add', 1, 2, 3), None, (40960, 1), (('go', 1),)]
+""",
+    "texts": r"""
+>>> from stagebelt.texts import assembled, read_design, write_design, written
+>>> text = "read 1\nsame yes\nplaces 1.4 2.2.4 2.2.4 2.3.4 2.2.3 2.2 1 2.2\npaths 3>2\nwaits order:set:sum:1"
+>>> [assembled("a:\nset r1 5\ngo a"), written((("store", 2, 0, 1),)), read_design(text)[3:], write_design(read_design(text)) == text]
+[(('set', 1, 5), ('go', 0)), 'store r2 r0 1', (((3, 2),), (('order', 'set', 'sum', 1),)), True]
+>>> assembled("go b")
+raises InvalidText(line=1)
+""",
+    "designs": """
+>>> from stagebelt.designs import all_entries, effect_place, is_design, is_entry, last_place, place_of, with_waits
+>>> design = (1, True, ((1, 4), (2, 2, 4), (2, 2, 4), (2, 3, 4), (2, 2, 3), (2, 2), (1,), (2, 2)), ((3, 2), (4, 2)), ())
+>>> [is_design(design), place_of(design, "load", "fetched"), effect_place(design, "store"), last_place(design, "go"), len(all_entries()), is_entry(("order", "set", "sum", 8))]
+[True, 3, 3, 1, 406, False]
+>>> with_waits(design, None)
+raises BadWaits
+""",
+    "belts": """
+>>> from stagebelt.belts import broken, delayed, laid_on, on_belt, run
+>>> design = (1, True, ((1, 4), (2, 2, 4), (2, 2, 4), (2, 3, 4), (2, 2, 3), (2, 2), (1,), (2, 2)), ((3, 2), (4, 2)), ())
+>>> program, state = (("load", 1, 0, 0), ("add", 2, 1, 1)), ((0,) * 8, (7,) * 16, ())
+>>> [run(design, program, state, ("next",))[0][0][:3], run(design, program, state, ("next",))[1:], on_belt(design, program, state, ("next",), 2), laid_on(design, program, state, ("next",)), broken(design, program, state, ("next",), 1)[1:], delayed(design, program, state, ("next",), (5,))[2]]
+[(0, 7, 0), (2, 6), ((2, 0), (1, 1)), ((0, 0, False), (1, 1, False)), (1, 1), 11]
+>>> run(design, (("go", 0),), state, ("goal",))
 raises TooLong(most=1000)
 """,
 }
@@ -88,4 +136,4 @@ class InterfaceTest(unittest.TestCase):
                     self.assertEqual(came, told)
 
     def test_all_lines_of_examples_are_tested(self):
-        self.assertEqual([len(outcomes(text)) for text in EXAMPLES.values()], [2, 1, 2])
+        self.assertEqual([len(outcomes(text)) for text in EXAMPLES.values()], [2, 1, 2, 1, 2, 2, 2])

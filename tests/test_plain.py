@@ -7,20 +7,10 @@ import unittest
 from stagebelt.errors import BadNumber, BadProgram, BadState, TooLong
 from stagebelt.plain import ended, ran, stepped
 from tests.reference import random_program, random_state, reference_run, reference_step
-from tests.samples import NO_INTEGERS, NO_WORDS, START, with_part
+from tests.samples import NO_INTEGERS, NO_STATES, NO_WORDS, START, with_part
 
 REGISTERS, CELLS, SHOWN = START
 IDLE = ("idle",)
-
-NO_STATES = (
-    True, False, None, 0, 8, "", "state", [], {}, (), (REGISTERS,), (REGISTERS, CELLS), START + ((),),
-    START + (None,), list(START), ([0] * 8, CELLS, ()), (REGISTERS, [0] * 16, ()), (REGISTERS, CELLS, []),
-    (REGISTERS[:7], CELLS, ()), (REGISTERS + (0,), CELLS, ()), ((), CELLS, ()),
-    (REGISTERS, CELLS[:15], ()), (REGISTERS, CELLS + (0,), ()), (REGISTERS, (), ()),
-    (REGISTERS, CELLS, (0,) * 1001), (REGISTERS, CELLS, None), (REGISTERS, CELLS, 0), (REGISTERS, CELLS, ""),
-    (None, CELLS, ()), (REGISTERS, None, ()), ("00000000", CELLS, ()), (CELLS, REGISTERS, ()),
-    ({k: 0 for k in range(8)}, CELLS, ()), (8, 16, 0),
-)
 
 
 def after(instruction, state=START, size=3):

@@ -5,7 +5,7 @@ import unittest
 from stagebelt.errors import BadInstruction, BadProgram
 from stagebelt.plain import ended, ran, stepped
 from stagebelt.programs import is_instruction, kind_of, used_by, written_by
-from tests.samples import NO_INSTRUCTIONS, NO_INTEGERS, ONE_OF_EACH, START, with_part
+from tests.samples import NO_INSTRUCTIONS, NO_INTEGERS, NO_PROGRAMS, ONE_OF_EACH, START, with_part
 
 # For each word, the greatest number of each of its parts; goals with 60.
 LIMITS = {
@@ -13,11 +13,6 @@ LIMITS = {
     "less": (7, 7, 7), "mul": (7, 7, 7), "load": (7, 7, 15), "store": (7, 7, 15), "zero": (7, 60),
     "go": (60,), "out": (7,),
 }
-
-NO_PROGRAMS = (
-    True, False, None, 0, 5, "", "idle", [], [("idle",)], {}, {0: ("idle",)},
-    (("idle",),) * 61, ("wrong",) * 61, (("idle",),) * 1000,
-)
 
 
 class IsInstructionTest(unittest.TestCase):
