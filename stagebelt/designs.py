@@ -1,7 +1,7 @@
 """Designs of a belt: at which place each kind does what, what is handed on ahead, and which pairs wait."""
 
 from stagebelt.checks import is_within
-from stagebelt.errors import BadDesign, BadKind, BadPaths, BadWaits
+from stagebelt.errors import BadDesign, BadEntry, BadKind, BadPaths, BadWaits
 
 LAST_PLACE = 7
 MOST_APART = 7
@@ -131,6 +131,12 @@ def is_entry(value):
     if not is_within(value[-1], 1, MOST_APART):
         return False
     return is_pair_told(value[:-1])
+
+
+def check_entry(entry):
+    """Raise BadEntry for any value that is no entry."""
+    if not is_entry(entry):
+        raise BadEntry("no entry")
 
 
 def all_entries():

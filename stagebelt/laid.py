@@ -14,6 +14,7 @@ class Laid:
         self.target = written_by(instruction)
         self.goal = part_of(instruction, "goal")
         self.guess = None
+        self.guessed_right = True
         self.thrown_away = False
         self.registers = ()
         self.words = {"a": None, "b": None}

@@ -110,6 +110,7 @@ class Belt:
         right = item.goal if to_goal else item.number + 1
         if item.guess == right:
             return
+        item.guessed_right = False
         for other in behind:
             other.thrown_away = True
         self.following = right

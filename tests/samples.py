@@ -119,3 +119,50 @@ NO_GUESSERS = NO_TUPLES + (
     ("table", 1, True), ("table", None, 1), ("table", 1, None), ("table", "1", 1), ("table", (1,), 1),
     ("table", -1, 2), ("table", 4, -2), ("table", [1], 1), {"next": 1}, ("next", "next"),
 )
+
+# The entries that are missing in the sample design, which are its least waits.
+LEAST = tuple(("value", "load") + use + (1,) for use in (
+    ("load", "a"), ("mul", "a"), ("out", "a"), ("store", "a"), ("store", "b"), ("sum", "a"), ("zero", "a")))
+
+# The sample design made right; it has no holes.
+RIGHT = with_part(DESIGN, 4, LEAST)
+
+# The sample design without paths, made right; and a right one with holes.
+PATHLESS = DESIGN[:3] + ((), tuple(sorted(
+    [("value", kind) + use[2:4] + (d,) for kind in ("load", "mul", "set", "sum") for use in LEAST for d in (1, 2)])))
+WITH_HOLES = with_part(RIGHT, 4, LEAST + (("wrong", "go", "out", 2),))
+
+BODY = (("load", 1, 0, 0), ("add", 2, 1, 1), ("store", 2, 0, 1))
+
+NO_BODIES = NO_TUPLES + (
+    (), BODY * 3, (("idle",),) * 7, list(BODY), "idle", ("idle",), ("idle", "idle"), (BODY,), BODY[0],
+    (("go", 0),), (("zero", 1, 0),), (("idle",), ("go", 1)), BODY + (("zero", 1, 0),), BODY + (None,),
+) + tuple((("idle",), value) for value in NO_INSTRUCTIONS) + tuple((value, ("idle",)) for value in NO_INSTRUCTIONS)
+
+NO_STEPS = NO_TUPLES + (
+    (), (True,), (("idle",),), (("idle",), True, True), [("idle",), True], ("idle", True), (True, ("idle",)),
+    (("idle",), False), (("set", 1, 2), False), (("out", 1), False), (("store", 1, 1, 1), False),
+    (("load", 1, 1, 1), False), (("add", 1, 1, 1), False), (("mul", 1, 1, 1), False),
+) + tuple((("idle",), value) for value in NO_TUPLES if value is not True) + tuple(
+    (("go", 1), value) for value in NO_INTEGERS + (0, 1) if value is not True and value is not False) + tuple(
+    (value, True) for value in NO_INSTRUCTIONS + (("go", 61), ("zero", 1, 61)))
+
+NO_TRACES = (
+    True, False, None, 0, 5, "", "trace", [], [(("idle",), True)], {}, {0: (("idle",), True)},
+    ((("idle",), True),) * 201, ("wrong",) * 201, ((("idle",), True),) * 1000, BeltError("5"),
+)
+
+# Values that are no ring of a body of three instructions.
+NO_RINGS = NO_TUPLES + (
+    (), (0,), (0, 1), ((0,),), ((0, 1, 1),), ([0, 1],), [(0, 1)], ("01",), ((3, 1),), ((-1, 1),), ((0, 2),),
+    ((0, -1),), ((0, 0),), ((2, 0),), ((True, 1),), ((0, True),), ((False, 1),), ((1, False), (2, 1)), ((None, 1),),
+    ((0, None),), (("0", 1),), ((0, "1"),), ((0, 1), (0, 1)), ((0, 0), (0, 1)), ((1, 0), (0, 1)),
+    ((0, 0), (1, 0)), ((0, 0), (2, 0), (1, 1)), ((0, 1), (1, 1), (2, 1), (0, 1)), ((0, 1), None), ((0, 1), (10 ** 5000, 1)),
+    ((0, 1), ([], 1)), ((0, 1), (1, {})),
+)
+
+# Values that are no order of a block of three instructions.
+NO_ORDERS = NO_TUPLES + (
+    (), (0, 1), (0, 1, 2, 3), (0, 1, 1), (1, 2, 3), (0, 1, 3), (0, 1, -1), (0, True, 2), (False, 1, 2), [0, 1, 2],
+    "012", ("0", "1", "2"), (0, 1, None), (0, 1, (2,)), (0, 1, [2]), (0, 1, {}), ((0, 1, 2),), (0, 1, 10 ** 5000),
+)

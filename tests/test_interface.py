@@ -37,7 +37,25 @@ ARGUMENTS = {
         "laid_on": ["design", "program", "state", "guesser"],
         "on_belt": ["design", "program", "state", "guesser", "beat"],
     },
+    "rights": {
+        "is_open": ["design", "entry"], "is_right": ["design"], "shows": ["design", "program", "state", "guesser"],
+        "open_entries": ["design"], "missing": ["design"], "least_waits": ["design"], "spared_by": ["design", "path"],
+        "paths_for": ["design", "entries"], "shown": ["design", "entry"], "first_shown": ["design"],
+    },
+    "beats": {
+        "trace_of": ["design", "program", "state", "guesser"], "laid_beats": ["design", "trace"],
+        "waited": ["design", "trace"], "beats_of": ["design", "trace"],
+    },
+    "speeds": {
+        "has_holes": ["design"], "never_slower": ["one", "other"], "may_order": ["block", "order"],
+        "filled": ["design"], "distance": ["design", "entry"], "rounds_beats": ["design", "body", "rounds"],
+        "order_beats": ["design", "block", "order"], "slower_trace": ["one", "other"], "pace": ["design", "body"],
+        "ring_pace": ["design", "body", "ring"], "pace_ring": ["design", "body"], "best_order": ["design", "block"],
+    },
+    "desks": {"Desk": ["design", "program", "state"]},
 }
+
+METHODS = {"forward": ["many"], "back": ["many"], "redesign": ["design"], "run": ["line"]}
 
 EXAMPLES = {
     "words": """
@@ -91,6 +109,44 @@ raises BadWaits
 >>> run(design, (("go", 0),), state, ("goal",))
 raises TooLong(most=1000)
 """,
+    "rights": """
+>>> from stagebelt.rights import is_open, is_right, least_waits, missing, paths_for, shown, spared_by
+>>> design = (1, True, ((1, 4), (2, 2, 4), (2, 2, 4), (2, 3, 4), (2, 2, 3), (2, 2), (1,), (2, 2)), ((3, 2), (4, 2)), ())
+>>> entry = ("value", "load", "sum", "a", 1)
+>>> [is_open(design, entry), len(missing(design)), least_waits(design)[0], is_right(design), is_right(design[:4] + (least_waits(design),)), shown(design, entry)[0], spared_by(design, (5, 2)), paths_for(design[:3] + ((), ()), (("value", "sum", "sum", "a", 1),))]
+[True, 7, ('value', 'load', 'load', 'a', 1), False, True, (('load', 0, 2, 1), ('add', 5, 0, 4)), (), ((3, 2),)]
+>>> paths_for(design, (entry,))
+raises NotMade
+""",
+    "beats": """
+>>> from stagebelt.beats import beats_of, laid_beats, trace_of, waited
+>>> design = (1, True, ((1, 4), (2, 2, 4), (2, 2, 4), (2, 3, 4), (2, 2, 3), (2, 2), (1,), (2, 2)), ((3, 2), (4, 2)), (("value", "load", "sum", "a", 1),))
+>>> trace = ((("load", 1, 0, 0), True), (("add", 2, 1, 1), True))
+>>> [laid_beats(design, trace), beats_of(design, trace), waited(design, trace)]
+[(0, 2), 7, (0, 1)]
+>>> beats_of(design, ((("idle",), False),))
+raises BadTrace(index=0)
+""",
+    "speeds": """
+>>> from stagebelt.rights import least_waits
+>>> from stagebelt.speeds import best_order, distance, filled, has_holes, may_order, never_slower, pace, pace_ring, rounds_beats
+>>> design = (1, True, ((1, 4), (2, 2, 4), (2, 2, 4), (2, 3, 4), (2, 2, 3), (2, 2), (1,), (2, 2)), ((3, 2), (4, 2)), ())
+>>> design = design[:4] + (least_waits(design),)
+>>> block = (("load", 1, 0, 0), ("add", 2, 1, 1), ("load", 3, 0, 1), ("add", 4, 3, 3))
+>>> [distance(design, ("value", "load", "sum", "a", 1)), has_holes(design), never_slower(design, design), best_order(design, block), may_order(block, (1, 0, 2, 3)), pace(design, (("load", 1, 1, 0),)), pace_ring(design, (("load", 1, 1, 0),)), rounds_beats(design, (("load", 1, 1, 0),), 1000)]
+[2, False, True, (0, 2, 1, 3), False, (2, 1), ((0, 1),), 2003]
+>>> pace(design[:4] + ((),), block)
+raises NotMade
+""",
+    "desks": """
+>>> from stagebelt.desks import Desk
+>>> design = (1, True, ((1, 4), (2, 2, 4), (2, 2, 4), (2, 3, 4), (2, 2, 3), (2, 2), (1,), (2, 2)), ((3, 2), (4, 2)), ())
+>>> desk = Desk(design, (("set", 1, 5), ("out", 1)), ((0,) * 8, (7,) * 16, ()))
+>>> [desk.run("forward 2"), desk.run("shown"), desk.run("next"), desk.back(1), desk.next, desk.run("missing"), desk.run("beats next")]
+[None, '5', 'end', None, 1, '7', '5']
+>>> desk.run("forward 01")
+raises InvalidText(line=1)
+""",
 }
 
 
@@ -127,6 +183,14 @@ class InterfaceTest(unittest.TestCase):
                     self.assertEqual(function.__module__, "stagebelt." + module)
                     self.assertEqual(list(inspect.signature(function).parameters), arguments)
 
+    def test_methods_of_the_desk(self):
+        desk = importlib.import_module("stagebelt.desks").Desk
+        for name, arguments in METHODS.items():
+            method = vars(desk)[name]
+            self.assertEqual(list(inspect.signature(method).parameters), ["self"] + arguments)
+        for name in ("state", "next", "done"):
+            self.assertIsInstance(vars(desk)[name], property)
+
     def test_examples(self):
         for module, text in EXAMPLES.items():
             pairs = outcomes(text)
@@ -136,4 +200,4 @@ class InterfaceTest(unittest.TestCase):
                     self.assertEqual(came, told)
 
     def test_all_lines_of_examples_are_tested(self):
-        self.assertEqual([len(outcomes(text)) for text in EXAMPLES.values()], [2, 1, 2, 1, 2, 2, 2])
+        self.assertEqual([len(outcomes(text)) for text in EXAMPLES.values()], [2, 1, 2, 1, 2, 2, 2, 2, 2, 2, 2])
