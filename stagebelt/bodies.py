@@ -38,8 +38,8 @@ def rounds_counted(design, body):
     laying = Laying(design)
     counts = [0]
     behind_rounds = {}
-    # How a round is laid on depends only on how the latest ones stand, and of ways to stand there
-    # are so many that one comes again.
+    # How a round is laid on depends only on how the latest ones stand; the ways to stand are
+    # finitely many, so that one comes again.
     while laying.standing() not in behind_rounds:
         behind_rounds[laying.standing()] = len(counts) - 1
         for instruction in body:
@@ -65,7 +65,7 @@ def told_distance(greatest, body, place, other, on):
     """The told distance of a step from one place of a body to another one, on rounds later."""
     many = on * len(body) + other - place
     # With one instruction laid on a beat, only the one from which the step begins is so many beats ahead.
-    ahead = [Laid(body[(place + beat) % len(body)], place + beat, beat) for beat in range(many)]
+    ahead = [Laid(body[(place + beat) % len(body)], beat) for beat in range(many)]
     met = [entry[:-1] for entry in waited_for(ahead, body[other], many) if entry[-1] == many]
     return max([many] + [distance_told(greatest, told) for told in met])
 

@@ -4,12 +4,12 @@ from stagebelt.programs import kind_of, part_of, used_by, written_by
 
 
 class Laid:
-    """An instruction that was laid on in a beat."""
+    """An instruction that was laid on in a beat; the number is its own in a program, if it is of one."""
 
-    def __init__(self, instruction, number, beat):
+    def __init__(self, instruction, beat, number=None):
         self.instruction = instruction
-        self.number = number
         self.beat = beat
+        self.number = number
         self.kind = kind_of(instruction)
         self.target = written_by(instruction)
         self.goal = part_of(instruction, "goal")

@@ -11,7 +11,6 @@ class Laying:
         self.places = places_of_kinds(design)
         self.waits = {entry: True for entry in design[4]}
         self.latest = []
-        self.many = 0
         self.least_beat = 0
         self.ending = 0
 
@@ -20,10 +19,9 @@ class Laying:
         beat = self.least_beat
         while has_to_wait(self.waits, self.latest, instruction, beat):
             beat += 1
-        item = Laid(instruction, self.many, beat)
+        item = Laid(instruction, beat)
         # No wait is for more beats, so the next one can wait for no others.
         self.latest = [other for other in self.latest if beat - other.beat < MOST_APART] + [item]
-        self.many += 1
         self.ending = max(self.ending, beat + last_place_among(self.places[item.kind]) + 1)
         self.least_beat = beat + 1 if right else beat + self.places[item.kind]["decided"] + 1
         return beat

@@ -61,7 +61,7 @@ class Belt:
         instruction = self.program[number]
         if has_to_wait(self.waits, self.on_it(), instruction, self.beat):
             return
-        item = Laid(instruction, number, self.beat)
+        item = Laid(instruction, self.beat, number)
         self.laid.append(item)
         self.following = number + 1
         if item.goal is not None:
